@@ -377,7 +377,7 @@ func TestPseudoClasses(t *testing.T) {
 			noList(t, ":"+s, ":"+s+" (1)", ":"+s+"()", ":"+s+"( )", ":"+s+"(a)", ":"+s+"(.a)", ":"+s+"(1,2)", ":"+s+"(1 of a)", ":"+s+"(n of a)", ":"+s+"((1))", ":"+s+"[1]", s+"(1)")
 		}
 	}
-	// No letter beyond a to z is alike to one of them: K is the sign of the kelvin, ſ a long s, ı without a point.
+	// No letter beyond a to z is alike to one of them: ſ is a long s, ı an i without a point, İ an I with one.
 	noList(t, ":hover", ":firſt-child", ":laſt-child", ":ıs(a)", ":iſ(a)", ":İS(a)", ":nth-of-type(1)", ":first-of-type", ":has(a)", ":any(a)", ":matches(a)", ":scope", ":lang(en)", ":nth-last-of-type(1)", ":first", ":last", ":only", ":\\-root", ":root\\ ")
 	told(t, "an escape", values(":\\72oot:n\\6ft(a)"), side(word(api.SRoot), of(api.SNot, side(tag("a")))))
 }
